@@ -1,0 +1,1 @@
+"""Weather: what the masts say."""
