@@ -1,6 +1,7 @@
 import unittest
 
-from weather.figures import is_number, only_figures
+from weather.errors import NoText
+from weather.figures import is_number, only_figures, read_whole
 
 
 class Figures(unittest.TestCase):
@@ -26,6 +27,23 @@ class Numbers(unittest.TestCase):
     def test_none(self):
         for text in ("", "00", "01", "-0", "-1", "+1", " 1", "1 ", "1_0", "\u0661"):
             self.assertIs(is_number(text, 60), False, repr(text))
+
+
+class Whole(unittest.TestCase):
+    def test_read_within_its_bounds(self):
+        for text, least, most, number in (("0", 0, 9, 0), ("9", 0, 9, 9), ("1", 1, 1, 1), ("1000", 7, 1000, 1000)):
+            self.assertEqual(read_whole(text, least, most), number)
+            self.assertIs(type(read_whole(text, least, most)), int)
+
+    def test_refused(self):
+        for text, least, most in (
+            ("0", 1, 9), ("10", 1, 9), ("6", 7, 1000), ("1001", 7, 1000), ("9" * 5000, 0, 9), ("01", 0, 99),
+            ("-1", 0, 9), ("+1", 0, 99), ("", 0, 9), (" 1", 0, 99), ("1/2", 0, 999), ("x", 0, 9),
+        ):
+            with self.subTest(text=text):
+                with self.assertRaises(NoText) as caught:
+                    read_whole(text, least, most)
+                self.assertEqual(caught.exception.row, 1)
 
 
 if __name__ == "__main__":
