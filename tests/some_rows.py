@@ -2,7 +2,7 @@
 
 import fractions
 
-from some_conditions import PLACED
+from some_conditions import PLACED, count_parts
 from weather.rules import holds
 
 MASTS = ("a", "hill", "sea")
@@ -56,7 +56,14 @@ def some_rule_condition(chance, depth, masts, most_place):
 
 def some_rules(chance, most, masts=MASTS, most_place=3):
     names = chance.sample("bcdefghijklm", chance.randrange(most + 1))
-    return [(name, some_rule_condition(chance, 2, masts, most_place)) for name in names]
+    return [(name, bounded_condition(chance, masts, most_place)) for name in names]
+
+
+def bounded_condition(chance, masts, most_place):
+    while True:
+        condition = some_rule_condition(chance, 2, masts, most_place)
+        if count_parts(condition) <= 30:
+            return condition
 
 
 def asked_by_hand(part):

@@ -1,6 +1,7 @@
 """Checks: how much a mast was off at a time, and how a value is put right by that and taken back."""
 
-from weather.fractions import fraction, minus, plus, times
+from weather.fractions import fraction, minus, plus
+from weather.lines import value_at
 
 
 def off_at(mast, time, checks):
@@ -9,23 +10,16 @@ def off_at(mast, time, checks):
         return fraction(0, 1)
     first = max([check for check in own if check[1] <= time], key=time_of, default=None)
     second = min([check for check in own if check[1] >= time], key=time_of, default=None)
+    # At a check's own time, ahead of the first and behind the last one a single check counts.
     if first is None:
         first = second
     if second is None:
         second = first
-    share = share_at(time, first[1], second[1])
-    return plus(first[2], times(share, minus(second[2], first[2])))
+    return value_at(time, first, second)
 
 
 def time_of(check):
     return check[1]
-
-
-def share_at(time, start, end):
-    # At a check's own time, ahead of the first and behind the last one a single check counts.
-    if start == end:
-        return fraction(0, 1)
-    return fraction(time - start, end - start)
 
 
 def put_right(mast, time, value, checks):

@@ -4,6 +4,8 @@ from weather.errors import NoFraction, NoText
 from weather.figures import is_number
 
 MOST_FIGURES = 60
+TOP_BOUND = 1000000000
+BOTTOM_BOUND = 1000000
 
 
 def fraction(top, bottom):
@@ -68,5 +70,13 @@ def read_fraction(text):
     found = fraction(top, bottom)
     # A fraction has one text alone: this turns away 2/4, 1/1, 0/3 and -0.
     if show_fraction(found) != text:
+        raise NoText(1)
+    return found
+
+
+# Fractions of units, checks and rules have narrower bounds than others.
+def read_small_fraction(text):
+    found = read_fraction(text)
+    if abs(found[0]) >= TOP_BOUND or found[1] >= BOTTOM_BOUND:
         raise NoText(1)
     return found

@@ -2,12 +2,10 @@
 
 from weather.errors import NoText
 from weather.figures import read_whole
-from weather.fractions import read_fraction
-from weather.readings import is_word
+from weather.fractions import read_small_fraction
+from weather.readings import read_word
 from weather.tokens import Tokens
 
-TOP_BOUND = 1000000000
-BOTTOM_BOUND = 1000000
 LAST_PLACE = 9
 MOST_RULES = 12
 LAST_STEP = 1000000
@@ -76,7 +74,7 @@ def read_sum(tokens):
 def read_product(tokens):
     if tokens.ahead(1) != "*":
         return read_single(tokens)
-    factor = read_rule_fraction(tokens.take())
+    factor = read_small_fraction(tokens.take())
     tokens.expect("*")
     tokens.begin_part()
     return ("times", factor, read_single(tokens))
@@ -95,7 +93,7 @@ def read_single(tokens):
         return ("at", read_word(tokens.take()))
     if word == "abs":
         return ("abs", read_bracketed(tokens))
-    return ("num", read_rule_fraction(word))
+    return ("num", read_small_fraction(word))
 
 
 def read_bracketed(tokens):
@@ -103,19 +101,6 @@ def read_bracketed(tokens):
     term = read_sum(tokens)
     tokens.leave(")")
     return term
-
-
-def read_rule_fraction(text):
-    found = read_fraction(text)
-    if found[0] >= TOP_BOUND or found[1] >= BOTTOM_BOUND:
-        raise NoText(1)
-    return found
-
-
-def read_word(text):
-    if not is_word(text):
-        raise NoText(1)
-    return text
 
 
 def read_rules(text):

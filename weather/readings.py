@@ -18,6 +18,12 @@ def is_word(thing):
     return all([sign in LETTERS for sign in thing]) and thing not in KEY_WORDS
 
 
+def read_word(text):
+    if not is_word(text):
+        raise NoText(1)
+    return text
+
+
 def show_reading(reading):
     mast = reading[0]
     time = show_time(reading[1])
@@ -28,11 +34,15 @@ def show_reading(reading):
 
 def read_reading(text):
     words = text.split(" ")
-    if len(words) != READING_WORDS or not is_word(words[0]):
+    if len(words) != READING_WORDS:
         raise NoText(1)
+    mast = read_word(words[0])
     time = read_time(words[1] + " " + words[2])
-    turn = read_whole(words[3], 0, LAST_TURN)
-    return (words[0], time, turn, read_number(words[4]))
+    return (mast, time, read_turn(words[3]), read_number(words[4]))
+
+
+def read_turn(text):
+    return read_whole(text, 0, LAST_TURN)
 
 
 # A reading's number has the figures, the sign and the bounds that the text of a fraction has above the stroke.
